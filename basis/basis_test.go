@@ -273,6 +273,14 @@ func TestSets(t *testing.T) {
 	if m, e := Intersect(product(nat, nat, nat, nat), left, right); e != api.ErrLimit || m != nil {
 		t.Errorf("Intersect of many gives %d values, %d", len(m), e)
 	}
+	var wide, high []api.Value
+	for i := range 256 {
+		wide = append(wide, api.Value{Kids: []api.Value{{N: i}, {N: 255 - i}, {}, {}}})
+		high = append(high, api.Value{Kids: []api.Value{{}, {}, {N: i}, {N: 255 - i}}})
+	}
+	if m, e := Intersect(product(nat, nat, nat, nat), wide, high); e != api.ErrLimit || m != nil {
+		t.Errorf("Intersect of very many gives %d values, %d", len(m), e)
+	}
 	if m, e := Intersect(product(nat, nat, nat, nat), left[1:], right[1:]); e != api.OK || len(m) != 256 {
 		t.Errorf("Intersect of 16 and 16 gives %d values, %d", len(m), e)
 	}

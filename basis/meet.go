@@ -21,9 +21,8 @@ func Intersect(t api.Type, a, b []api.Value) ([]api.Value, api.Errno) {
 	if e := both(t, a, b); e != api.OK {
 		return nil, e
 	}
-	var out []api.Value
+	var all []api.Value
 	for _, x := range a {
-		all := out[:len(out):len(out)]
 		for _, y := range b {
 			l, e := meetChecked(t, x, y)
 			if e != api.OK {
@@ -31,9 +30,8 @@ func Intersect(t api.Type, a, b []api.Value) ([]api.Value, api.Errno) {
 			}
 			all = append(all, l...)
 		}
-		out = minimal(t, all)
 	}
-	return limited(out)
+	return limited(minimal(t, all))
 }
 
 // meetChecked returns the values of Meet, or its error.

@@ -89,6 +89,14 @@ func TestErrorsOfSets(t *testing.T) {
 	if _, e := Intersect(4, a, b); e != api.ErrLimit {
 		t.Errorf("Intersect of many gives %d", e)
 	}
+	var wide, high list
+	for i := range 256 {
+		wide = append(wide, []int{i, 255 - i, w, w})
+		high = append(high, []int{w, w, i, 255 - i})
+	}
+	if _, e := Intersect(4, wide, high); e != api.ErrLimit {
+		t.Errorf("Intersect of very many gives %d", e)
+	}
 	for _, x := range []struct {
 		n            int
 		l            list

@@ -151,6 +151,16 @@ func TestErrors(t *testing.T) {
 	if l, e := Trail(long, s, val("0(0 0)")); e != api.ErrLimit || l != nil {
 		t.Errorf("Trail gives %d steps, %d", len(l), e)
 	}
+	s, _ = Start(long, vals("0(0 600)"))
+	full, n, e := Run(long, s, 1000)
+	if e != api.ErrLimit || n != 511 || len(full.Origins) != api.MaxOrigins || full.Used != 511 || len(full.Front) != 1 {
+		t.Errorf("Run with too many origins gives %d, %d", n, e)
+	}
+	if again, ok, e := Step(long, full); e != api.ErrLimit || ok || !Same(again, full) {
+		t.Errorf("Step with too many origins gives %v, %d", ok, e)
+	}
+	s, _ = Start(long, vals("0(0 65)"))
+	s, _, _ = Run(long, s, 100)
 	if Hit(api.Model{}, s) || !Hit(long, s) {
 		t.Error("Hit is wrong")
 	}

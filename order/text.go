@@ -39,11 +39,13 @@ func write(b *strings.Builder, v api.Value) {
 	if len(v.Kids) == 0 {
 		return
 	}
-	for i, k := range v.Kids {
-		b.WriteByte("( "[min(i, 1)])
+	before := "("
+	for _, k := range v.Kids {
+		b.WriteString(before)
 		write(b, k)
+		before = " "
 	}
-	b.WriteByte(')')
+	b.WriteString(")")
 }
 
 // reader reads a value from a text; nodes counts what it has read.

@@ -36,6 +36,16 @@ func sameTokens(a, b string) bool {
 	return slices.EqualFunc(s, t, func(x, y api.Token) bool { return x.Kind == y.Kind && x.Text == y.Text })
 }
 
+// kindOf returns the kind with a name, and 0 if there is none.
+func kindOf(name string) int {
+	for kind, n := range kindNames {
+		if n == name {
+			return kind
+		}
+	}
+	return 0
+}
+
 // parser reads the words of a line into a model; failed is set when one of them cannot be read.
 type parser struct {
 	m      api.Model
@@ -87,8 +97,7 @@ func (p *parser) names() []string {
 func (p *parser) line() {
 	switch p.next() {
 	case "model":
-		kind := p.next()
-		p.m.Kind = max(slices.Index(kindNames[:], kind), 0)
+		p.m.Kind = kindOf(p.next())
 	case "states":
 		p.m.States = p.names()
 	case "places":

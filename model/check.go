@@ -25,9 +25,6 @@ var forms = [...]form{
 	api.KindBranching: {leastPlaces: 1, mostPlaces: api.MaxDim},
 }
 
-// keywords are no names, because they begin lines and clauses of texts.
-var keywords = [...]string{"model", "states", "places", "letters", "levels", "age", "rule", "need", "give", "move", "empty", "send", "receive", "path", "next", "take", "make", "start"}
-
 // counted reports whether a model of one of the kinds has as many things as it may have.
 func counted(m api.Model) bool {
 	f := forms[m.Kind]
@@ -45,21 +42,27 @@ func ranked(m api.Model) bool {
 
 // named reports whether all names are right, and none is there twice.
 func named(m api.Model) bool {
-	seen := map[string]bool{}
-	for _, k := range keywords {
-		seen[k] = true
-	}
 	names := slices.Concat(m.States, m.Places, m.Letters)
 	for _, r := range m.Rules {
 		names = append(names, r.Name)
 	}
+	seen := make(map[string]bool, len(names))
 	for _, n := range names {
-		if seen[n] || !token.Word(n) {
+		if seen[n] || keyword(n) || !token.Word(n) {
 			return false
 		}
 		seen[n] = true
 	}
 	return true
+}
+
+// keyword reports whether a word begins a line or a clause of texts: then it is no name.
+func keyword(s string) bool {
+	switch s {
+	case "model", "states", "places", "letters", "levels", "age", "rule", "need", "give", "move", "empty", "send", "receive", "path", "next", "take", "make", "start":
+		return true
+	}
+	return false
 }
 
 // right reports whether a rule is one of a model.

@@ -8,7 +8,7 @@ import (
 	"coverability/word"
 )
 
-// below compares two values of a valid type.
+// below compares two values of a valid type. They have a bounded size, but perhaps another form: then it does not matter what is said of them.
 func below(t api.Type, a, b api.Value) bool {
 	switch t.Kind {
 	case api.TypeNat:
@@ -16,6 +16,9 @@ func below(t api.Type, a, b api.Value) bool {
 	case api.TypeLabel:
 		return a.N == b.N
 	case api.TypeProduct:
+		if len(a.Kids) != len(t.Parts) || len(b.Kids) != len(t.Parts) {
+			return false
+		}
 		for i, p := range t.Parts {
 			if !below(p, a.Kids[i], b.Kids[i]) {
 				return false

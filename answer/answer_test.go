@@ -179,3 +179,42 @@ func TestBudgets(t *testing.T) {
 		}
 	}
 }
+
+// TestLongest checks P42.1: runs and pumps that are just short enough.
+func TestLongest(t *testing.T) {
+	m := long()
+	m.Start.Kids[1].N = 64
+	if a, e := Ask(m, api.Question{Kind: api.AskDead}, 128); e != api.OK || !a.Decided || len(a.Run) != 64 {
+		t.Errorf("Ask gives %v, %d", a, e)
+	}
+	pump := parse(`model counter
+states a b c d e p q r
+places x y
+rule r1 a -> b need x 1 give y 1
+rule r2 b -> c
+rule r3 c -> d
+rule r4 d -> e
+rule r5 e -> a
+rule out a -> p need y 12
+rule p1 p -> q
+rule p2 q -> r
+rule p3 r -> p give x 1
+start 0(0 13 0)`)
+	a, e := Ask(pump, api.Question{Kind: api.AskBounded}, 1000)
+	if e != api.OK || !a.Decided || len(a.Pump.Before) != 61 || len(a.Pump.Again) != 3 {
+		t.Errorf("Ask gives %v, %d", a, e)
+	}
+}
+
+// TestSameFields checks P42.2: answers that differ in one part of one field.
+func TestSameFields(t *testing.T) {
+	one := func(x api.Limit) api.Answer { return api.Answer{Limits: limits(x)} }
+	for i, x := range [][2]api.Answer{
+		{one(api.Limit{State: 1, Vector: []int{1}}), one(api.Limit{Vector: []int{1}})}, {one(api.Limit{Vector: []int{1}}), one(api.Limit{Vector: []int{2}})}, {{Run: steps(0, "0")}, {Run: steps(1, "0")}}, {{Run: steps(0, "0")}, {Run: steps(0, "1")}},
+		{{Basis: vals("1")}, {Basis: vals("2")}}, {{Closed: vals("1")}, {Closed: vals("2")}}, {{Pump: api.Pump{Before: []int{1}}}, {Pump: api.Pump{Before: []int{2}}}}, {{Pump: api.Pump{Again: []int{1}}}, {Pump: api.Pump{Again: []int{2}}}},
+	} {
+		if Same(x[0], x[1]) || !Same(x[0], x[0]) {
+			t.Errorf("%d: Same sees no difference", i)
+		}
+	}
+}

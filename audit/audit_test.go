@@ -228,3 +228,42 @@ func TestSystem(t *testing.T) {
 		t.Errorf("only %d answers were decided", decided)
 	}
 }
+
+// TestLeastDepth checks P45.2: exploring falls back to the depth 0, and goes to the depth 16.
+func TestLeastDepth(t *testing.T) {
+	high := parse("model counter\nstates a\nplaces x\nrule r a -> a give x 1\nstart 0(0 1048575)")
+	no := api.Answer{Decided: true}
+	for _, depth := range []int{0, 1, 16} {
+		if ok, e := Agrees(high, api.Question{Kind: api.AskCover, Target: high.Start}, no, depth); e != api.OK || ok {
+			t.Errorf("Agrees with the depth %d gives %v, %d", depth, ok, e)
+		}
+	}
+	if ok, e := Agrees(up(), api.Question{Kind: api.AskReach, Target: val("0(0 16 0)")}, no, 16); e != api.OK || ok {
+		t.Errorf("Agrees with the depth 16 gives %v, %d", ok, e)
+	}
+}
+
+// TestAnother checks P45.3: which models have a second way, and what it says.
+func TestAnother(t *testing.T) {
+	moves := parse("model counter\nstates a\nplaces x\nrule r a -> a empty x\nstart 0(0 0)")
+	ages := parse("model timed\nstates a\nplaces x\nage 1\nstart 0(0 0)")
+	endless := parse("model lossy\nstates a b\nplaces c\nletters l k\nrule r a -> b send c l\nrule s b -> a send c k\nstart 0(0 0)")
+	high := parse("model counter\nstates a b\nplaces x\nrule r a -> b\nrule s b -> a give x 1\nstart 0(0 1048576)")
+	for i, x := range []struct {
+		m      api.Model
+		budget int
+		ok     bool
+	}{{up(), 99, true}, {up(), 3, true}, {up(), 2, false}, {turns(), 99, true}, {turns(), 1, false}, {moves, 99, false}, {ages, 99, false}, {endless, 999, false}, {high, 99, false}} {
+		if _, ok := another(x.m, x.budget); ok != x.ok {
+			t.Errorf("%d: another gives %v", i, ok)
+		}
+	}
+	way, _ := another(up(), 99)
+	if !way.allows(val("0(0 7 0)"), true) || way.allows(val("0(0 0 1)"), true) {
+		t.Error("the tree is wrong")
+	}
+	way, _ = another(turns(), 99)
+	if !way.allows(val("0(1 0(0 1))"), true) || way.allows(val("0(0 0(0 1))"), true) {
+		t.Error("the clouds are wrong")
+	}
+}

@@ -261,3 +261,29 @@ func TestClosed(t *testing.T) {
 		}
 	}
 }
+
+// TestSameFields checks P25.2: searches that differ in one field.
+func TestSameFields(t *testing.T) {
+	origin := func(v string, rule int, next string) api.Search {
+		return api.Search{Origins: []api.Origin{{Value: val(v), Rule: rule, Next: val(next)}}}
+	}
+	all := []api.Search{{}, {Used: 1}, {Basis: vals("1")}, {Basis: vals("2")}, {Front: vals("1")}, {Front: vals("2")}, origin("0", 0, "0"), origin("1", 0, "0"), origin("0", 1, "0"), origin("0", 0, "1")}
+	for i, a := range all {
+		for j, b := range all {
+			if Same(a, b) != (i == j) {
+				t.Errorf("Same of %v and %v is wrong", a, b)
+			}
+		}
+	}
+}
+
+// TestTrailErrors checks P25.3: origins that say more than their steps do.
+func TestTrailErrors(t *testing.T) {
+	m := counters()
+	for rule, want := range map[int]api.Errno{0: api.ErrNone, -1: api.ErrNone, 1: api.ErrNone, 9: api.ErrRule} {
+		s := api.Search{Origins: []api.Origin{{Value: val("0(0 0 0)"), Rule: rule, Next: val("0(1 9 9)")}}}
+		if l, e := Trail(m, s, val("0(0 3 0)")); e != want || l != nil {
+			t.Errorf("Trail by the rule %d gives %v, %d", rule, l, e)
+		}
+	}
+}

@@ -177,3 +177,17 @@ func TestLaws(t *testing.T) {
 		t.Errorf("only %d pumps were found", found)
 	}
 }
+
+// TestJustEnough checks P29.3 and P29.4: rules and times at their limits.
+func TestJustEnough(t *testing.T) {
+	m := parse("model counter\nstates a\nplaces x\nrule r a -> a give x 1\nstart 0(0 0)")
+	if l, e := Repeat(m, api.Pump{Again: []int{0}}, 64); e != api.OK || len(l) != 64 {
+		t.Errorf("Repeat gives %d steps, %d", len(l), e)
+	}
+	if l, e := Repeat(m, api.Pump{Again: []int{0}}, 65); e != api.ErrLimit || l != nil {
+		t.Errorf("Repeat gives %d steps, %d", len(l), e)
+	}
+	if _, e := Grows(m, api.Pump{Again: []int{1}}); e != api.ErrRule {
+		t.Errorf("Grows gives %d", e)
+	}
+}

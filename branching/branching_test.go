@@ -164,3 +164,15 @@ rule k a + a -> a`)
 		t.Errorf("All of size 1 gives %v, %d", l, e)
 	}
 }
+
+// TestLargest checks P21.2 and P21.3: as much as there may be.
+func TestLargest(t *testing.T) {
+	if s, e := Shape(chain(12)); e != api.OK || tree.Size(s) != 12 {
+		t.Errorf("Shape gives %v, %d", s, e)
+	}
+	// Behind n rules x and y are at least 0 and together n - 1, in one of two states: 2 * (1 + 2 + ... + 6) configurations are few.
+	few := parse("model branching\nstates a b\nplaces x y\nrule b1 0 -> a\nrule b2 0 -> b\nrule x1 a -> a give x 1\nrule x2 b -> b give x 1\nrule y1 a -> a give y 1\nrule y2 b -> b give y 1")
+	if l, e := All(few, 6); e != api.OK || len(l) != 42 {
+		t.Errorf("All gives %d, %d", len(l), e)
+	}
+}

@@ -172,3 +172,17 @@ func TestLaws(t *testing.T) {
 		t.Error("a result shares memory with an argument")
 	}
 }
+
+// TestLongest checks P18.1: a word as long as it may be.
+func TestLongest(t *testing.T) {
+	eleven := val("0(0 0 0(0 0 0 0 0 0 0 0 0 0 0))")
+	for _, m := range []api.Model{lossy(), ranked()} {
+		c, e := Apply(m, 0, eleven)
+		if e != api.OK || len(c.Kids[2].Kids) != 12 {
+			t.Errorf("Apply gives %v, %d", c, e)
+		}
+		if _, e := Apply(m, 0, api.Value{Kids: []api.Value{{}, {}, c.Kids[2]}}); e != api.ErrLimit {
+			t.Errorf("Apply to the longest word gives %d", e)
+		}
+	}
+}

@@ -175,3 +175,17 @@ func other(m api.Model, r *rand.Rand) api.Value {
 	}
 	return c
 }
+
+// TestParts checks P43.2: a field is not empty if one part of it is not.
+func TestParts(t *testing.T) {
+	q := api.Question{Kind: api.AskCover, Target: val("0(0 0 0)")}
+	for i, a := range []api.Answer{{Atom: api.Atom{Coefs: []int{0}}}, {Atom: api.Atom{Values: []int{0}}}, {Atom: api.Atom{Mod: 2}}, {Pump: api.Pump{Before: []int{0}}}, {Pump: api.Pump{Again: []int{0}}}, {Limits: make([]api.Limit, 1)}, {Closed: vals("0")}, {Basis: vals("0")}} {
+		a.Decided, a.Yes = true, true
+		if e := Check(up(), q, a); e != api.ErrAnswer {
+			t.Errorf("%d: Check gives %d", i, e)
+		}
+	}
+	if e := Check(up(), q, api.Answer{Decided: true, Yes: true}); e != api.OK {
+		t.Errorf("Check gives %d", e)
+	}
+}

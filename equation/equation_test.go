@@ -188,3 +188,20 @@ func TestLaws(t *testing.T) {
 		}
 	}
 }
+
+// TestMost checks P34.1 and P34.2: as many rules, and as often, as there may be, and that errors come alone.
+func TestMost(t *testing.T) {
+	six := parse(text(6))
+	if l, e := Counts(six, val("0(0 1)"), 10); e != api.OK || len(l) != 6 {
+		t.Errorf("Counts gives %v, %d", l, e)
+	}
+	if l, ok, e := Realise(parse(text(1)), []int{10}); e != api.OK || !ok || len(l) != 10 {
+		t.Errorf("Realise gives %v, %v, %d", l, ok, e)
+	}
+	if _, ok, e := Realise(parse(text(1)), []int{11}); e != api.ErrRange || ok {
+		t.Errorf("Realise gives %v, %d", ok, e)
+	}
+	if ok, e := Solves(six, val("0"), nil); e != api.ErrConfig || ok {
+		t.Errorf("Solves gives %v, %d", ok, e)
+	}
+}

@@ -301,3 +301,32 @@ func TestAppendAndBehind(t *testing.T) {
 		t.Error("a result shares memory with an argument")
 	}
 }
+
+// TestMost checks P9.1, P9.2 and P9.4: as many letters, terms and products as there may be.
+func TestMost(t *testing.T) {
+	if Check(1, prod("0[0]")) != api.OK || Check(6, prod("5[012345]")) != api.OK || Check(7, nil) != api.ErrRange || Check(-1, nil) != api.ErrRange {
+		t.Error("Check is wrong")
+	}
+	if b, e := Below(6, [][]int{{5}}); e != api.OK || texts(b) != "[01234]" {
+		t.Errorf("Below gives %s, %d", texts(b), e)
+	}
+	if p, e := Append(2, prod(strings.Repeat("01", 11)+"0"), 1); e != api.OK || len(p) != 24 {
+		t.Errorf("Append gives %d terms, %d", len(p), e)
+	}
+	var l [][]api.Term
+	for _, w := range words(4, 4) {
+		if len(w) == 4 {
+			var p []api.Term
+			for _, x := range w {
+				p = append(p, api.Term{Letters: []int{x}})
+			}
+			l = append(l, p)
+		}
+	}
+	if m, e := Maximise(4, l); e != api.OK || len(m) != 256 {
+		t.Errorf("Maximise gives %d products, %d", len(m), e)
+	}
+	if m, e := Maximise(5, append(l, prod("4"))); e != api.ErrLimit || m != nil {
+		t.Errorf("Maximise gives %d products, %d", len(m), e)
+	}
+}

@@ -188,3 +188,11 @@ func TestAgainstRules(t *testing.T) {
 		}
 	}
 }
+
+// TestMost checks P30.2: a set of four dimensions.
+func TestMost(t *testing.T) {
+	four := parse("model counter\nstates a\nplaces w x y z\nrule r a -> a give z 16\nstart 0(0 0 0 0 0)")
+	if s, e := Set(four, []int{0}, []int{16, 0, 0, 16}); e != api.OK || fmt.Sprint(s) != "{[16 0 0 16] [[0 0 0 16]]}" {
+		t.Errorf("Set gives %v, %d", s, e)
+	}
+}

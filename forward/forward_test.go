@@ -215,3 +215,16 @@ func TestAgainstExploring(t *testing.T) {
 		t.Errorf("only %d trees were done", done)
 	}
 }
+
+// TestSameFields checks P28.2: trees that differ in one field.
+func TestSameFields(t *testing.T) {
+	node := func(n api.Node) api.Grown { return api.Grown{Nodes: []api.Node{n}} }
+	all := []api.Grown{{}, {Next: 1}, node(api.Node{}), node(api.Node{State: 1}), node(api.Node{Vector: []int{1}}), node(api.Node{Vector: []int{2}}), node(api.Node{Parent: 1}), node(api.Node{Rule: 1})}
+	for i, a := range all {
+		for j, b := range all {
+			if Same(a, b) != (i == j) {
+				t.Errorf("Same of %v and %v is wrong", a, b)
+			}
+		}
+	}
+}

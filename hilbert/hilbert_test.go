@@ -186,3 +186,16 @@ func TestLargest(t *testing.T) {
 		t.Errorf("Split gives %v, %d", s, e)
 	}
 }
+
+// TestMost checks P12.1 and P12.2: numbers at their limits.
+func TestMost(t *testing.T) {
+	if Check(rows{{1}}, []int{api.MaxNumber}) != api.OK || Check(rows{{1}}, []int{-api.MaxNumber}) != api.OK {
+		t.Error("Check is wrong")
+	}
+	if s, e := Split(rows{{0, 1}}, []int{10, 0}); e != api.OK || len(s) != 10 {
+		t.Errorf("Split gives %v, %d", s, e)
+	}
+	if s, e := Split(rows{{0, 1}}, []int{11, 0}); e != api.ErrRange || s != nil {
+		t.Errorf("Split gives %v, %d", s, e)
+	}
+}

@@ -202,3 +202,11 @@ func TestAgainstClosure(t *testing.T) {
 		}
 	}
 }
+
+// TestLeast checks P35.1: a graph of one configuration.
+func TestLeast(t *testing.T) {
+	m := parse("model counter\nstates a\nplaces x\nrule r a -> a\nstart 0(0 0)")
+	if g, e := Build(m, 1); e != api.OK || fmt.Sprint(g.Arcs) != "[[{0 0}]]" {
+		t.Errorf("Build gives %v, %d", g, e)
+	}
+}

@@ -210,3 +210,15 @@ func TestLaws(t *testing.T) {
 		}
 	}
 }
+
+// TestErrorsAlone checks that errors come without a result.
+func TestErrorsAlone(t *testing.T) {
+	good := atom(2, []int{1}, 0)
+	for _, a := range []api.Atom{good, atom(1, []int{1}, 0)} {
+		ok1, e1 := Holds(triple(), a, val("0"))
+		ok2, e2 := Excludes(triple(), a, val("0"))
+		if e1 == api.OK || e2 == api.OK || ok1 || ok2 {
+			t.Errorf("%v: %v, %d, %v, %d", a, ok1, e1, ok2, e2)
+		}
+	}
+}

@@ -180,3 +180,11 @@ func TestDecide(t *testing.T) {
 		t.Errorf("Decide beyond a limit gives %d", e)
 	}
 }
+
+// TestNoText checks P40.1: an origin whose value has no text.
+func TestNoText(t *testing.T) {
+	after := api.Search{Used: 1, Origins: []api.Origin{{Value: api.Value{Kids: make([]api.Value, 200)}}}}
+	if s, e := Entry(counters(), api.Search{}, after); e != api.ErrJournal || s != "" {
+		t.Errorf("Entry gives %q, %d", s, e)
+	}
+}

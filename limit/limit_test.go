@@ -207,3 +207,16 @@ func TestLargeComplement(t *testing.T) {
 		t.Error("Below is empty")
 	}
 }
+
+// TestOneDimension checks P8.1 to P8.3 in the least dimension.
+func TestOneDimension(t *testing.T) {
+	if m, e := Maximise(1, list{{3}, {5}}); e != api.OK || !same(m, list{{5}}) {
+		t.Errorf("Maximise gives %v, %d", m, e)
+	}
+	if l, e := Below(1, list{{3}}); e != api.OK || !same(l, list{{2}}) {
+		t.Errorf("Below gives %v, %d", l, e)
+	}
+	if l, e := Above(1, list{{2}}); e != api.OK || !same(l, list{{3}}) {
+		t.Errorf("Above gives %v, %d", l, e)
+	}
+}

@@ -307,3 +307,35 @@ func TestAgainstExploring(t *testing.T) {
 		}
 	}
 }
+
+// TestErrorsAlone checks that errors come without a result, and which states there are.
+func TestErrorsAlone(t *testing.T) {
+	good, bad := cloud(0, "0", ""), cloud(2, "0", "")
+	ok1, e1 := Has(two(), bad, two().Start)
+	ok2, e2 := Has(two(), good, val("0"))
+	ok3, e3 := Leq(two(), bad, good)
+	ok4, e4 := Excludes(two(), []api.Cloud{bad}, two().Start)
+	ok5, e5 := Excludes(two(), nil, val("0"))
+	if ok1 || ok2 || ok3 || ok4 || ok5 || e1 != api.ErrRange || e2 != api.ErrConfig || e3 != api.ErrRange || e4 != api.ErrRange || e5 != api.ErrConfig {
+		t.Errorf("%v, %d, %v, %d, %v, %d, %v, %d, %v, %d", ok1, e1, ok2, e2, ok3, e3, ok4, e4, ok5, e5)
+	}
+}
+
+// TestMost checks P31.3 and P31.4: as many clouds as there may be.
+func TestMost(t *testing.T) {
+	var l []api.Cloud
+	for i := range 64 {
+		l = append(l, cloud(0, fmt.Sprintf("%06b", i), ""))
+	}
+	if m, e := Maximise(two(), l); e != api.OK || len(m) != 64 {
+		t.Errorf("Maximise gives %d, %d", len(m), e)
+	}
+	// Each step can send one of two letters: behind seven steps there are more than 64 clouds.
+	many := parse("model lossy\nstates a b\nplaces c\nletters l k\nrule r a -> b send c l\nrule s b -> a send c k\nrule t a -> b send c k\nrule u b -> a send c l\nstart 0(0 0)")
+	if l, ok, e := Explore(many, 1000); e != api.ErrLimit || ok || l != nil {
+		t.Errorf("Explore gives %d clouds, %v, %d", len(l), ok, e)
+	}
+	if l, ok, e := Explore(many, 20); e != api.OK || ok || len(l) == 0 {
+		t.Errorf("Explore gives %d clouds, %v, %d", len(l), ok, e)
+	}
+}

@@ -180,3 +180,13 @@ func contains(l []int, x int) bool {
 	}
 	return false
 }
+
+// TestMost checks P10.1: numbers at their limits.
+func TestMost(t *testing.T) {
+	if v, e := Apply([][]int{{16, -16}}, []int{api.MaxNumber, -api.MaxNumber}); e != api.OK || !same(v, []int{32 * api.MaxNumber}) {
+		t.Errorf("Apply gives %v, %d", v, e)
+	}
+	if _, e := Apply([][]int{{1}}, []int{api.MaxNumber + 1}); e != api.ErrRange {
+		t.Errorf("Apply gives %d", e)
+	}
+}

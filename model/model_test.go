@@ -175,3 +175,34 @@ func TestConfigs(t *testing.T) {
 		t.Error("Same sees a difference between nothing and an empty list")
 	}
 }
+
+// TestMost checks P15.1: as much of everything as there may be.
+func TestMost(t *testing.T) {
+	change := func(kind int, f func(m *api.Model, r *api.Rule)) api.Model {
+		m := sample(kind)
+		f(&m, &m.Rules[0])
+		return m
+	}
+	for i, m := range []api.Model{
+		change(1, func(m *api.Model, r *api.Rule) {
+			m.Rules = nil
+			for i := range 12 {
+				x := sample(1).Rules[0]
+				x.Name = fmt.Sprintf("r%d", i)
+				m.Rules = append(m.Rules, x)
+			}
+		}),
+		change(1, func(m *api.Model, r *api.Rule) { r.From, r.To, r.Move = 1, 1, []int{1, 1} }),
+		change(1, func(m *api.Model, r *api.Rule) { m.States = []string{"a", "b", "c", "d", "e", "f", "g", "h"} }),
+		change(4, func(m *api.Model, r *api.Rule) { r.Path, r.Next = []int{1, 1}, []int{1, 1} }),
+		change(4, func(m *api.Model, r *api.Rule) { r.Path, r.Next = []int{1, 0}, nil }),
+		change(5, func(m *api.Model, r *api.Rule) { r.Takes, r.Makes = make([]api.Take, 3), []int{1, 1, 1} }),
+		change(5, func(m *api.Model, r *api.Rule) { m.Age, r.Takes[0].Low, r.Takes[0].High = 3, 4, 4 }),
+		change(6, func(m *api.Model, r *api.Rule) { r.From, r.Second = 1, 1 }),
+		change(3, func(m *api.Model, r *api.Rule) { r.Act, r.Channel, r.Letter = api.ActReceive, 1, 1 }),
+	} {
+		if e := Check(m); e != api.OK {
+			t.Errorf("%d: Check gives %d", i, e)
+		}
+	}
+}

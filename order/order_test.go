@@ -248,3 +248,42 @@ func TestText(t *testing.T) {
 		t.Errorf("Parse of a long text gives %d", e)
 	}
 }
+
+// TestMost checks P6.1 to P6.4: sizes at their limits.
+func TestMost(t *testing.T) {
+	for _, x := range []api.Type{{Kind: api.TypeLabel, Size: 1}, {Kind: api.TypeTree, Size: 1}, {Kind: api.TypeTree, Size: 16}, {Kind: api.TypePriority, Size: 1, Ranks: []int{5}}, {Kind: api.TypePriority, Size: 6, Ranks: make([]int, 6)}} {
+		if Check(x) != api.OK || !Valid(x, api.Value{}) {
+			t.Errorf("%v is not valid", x)
+		}
+	}
+	// 1 + 9 * 13 + 10 nodes are as many as there may be.
+	full := api.Value{}
+	for range 9 {
+		full.Kids = append(full.Kids, wide(12))
+	}
+	full.Kids = append(full.Kids, wide(9))
+	ty := words(words(nat))
+	if Size(full) != api.MaxSize || !Valid(ty, full) || !Leq(ty, full, full) || Least(ty, full) {
+		t.Errorf("a value with %d nodes is not valid", Size(full))
+	}
+	if s, e := Sorted(ty, full); e != api.OK || Compare(s, full) != 0 {
+		t.Errorf("Sorted gives %d", e)
+	}
+	text, e := Text(full)
+	if back, e2 := Parse(text); e != api.OK || e2 != api.OK || Compare(back, full) != 0 {
+		t.Errorf("Text gives %q, %d, Parse %d", text, e, e2)
+	}
+	full.Kids[9] = wide(10)
+	if Valid(ty, full) || Leq(ty, full, full) || Leq(ty, val("0"), full) || Leq(ty, full, val("0")) {
+		t.Error("a value with too many nodes is valid")
+	}
+	if _, e := Parse(strings.Repeat("0", api.MaxText)); e != api.ErrSyntax {
+		t.Errorf("Parse gives %d", e)
+	}
+	wrong := product(nat, nat)
+	for _, v := range []api.Value{val("0"), val("0(1)"), val("0(1 2 3)"), val("1(1 2)")} {
+		if Leq(wrong, v, val("0(1 2)")) || Leq(wrong, val("0(0 0)"), v) || Leq(wrong, v, v) {
+			t.Errorf("%v is compared", v)
+		}
+	}
+}

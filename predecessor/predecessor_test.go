@@ -293,3 +293,14 @@ func TestUnions(t *testing.T) {
 		t.Errorf("All of nothing gives %v, %d", l, e)
 	}
 }
+
+// TestMost checks P24.1: as many minimal predecessors as there may be.
+func TestMost(t *testing.T) {
+	m := parse("model counter\nstates a\nplaces x y\nrule r a -> a move x x move y x\nstart 0(0 0 0)")
+	if l, e := One(m, 0, val("0(0 255 0)")); e != api.OK || len(l) != 256 {
+		t.Errorf("One gives %d values, %d", len(l), e)
+	}
+	if l, e := One(m, 0, val("0(0 256 0)")); e != api.ErrLimit || l != nil {
+		t.Errorf("One gives %d values, %d", len(l), e)
+	}
+}

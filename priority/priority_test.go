@@ -160,3 +160,12 @@ func TestProves(t *testing.T) {
 		}
 	}
 }
+
+// TestOneInvalid checks P5.1: one word that is not valid is enough.
+func TestOneInvalid(t *testing.T) {
+	r := []int{0, 1}
+	good, bad := []int{1}, []int{2, 1}
+	if Leq(r, good, bad) || Leq(r, bad, good) || Proves(r, good, bad, []int{1}) || Proves(r, bad, []int{2, 1}, []int{0, 1}) || Proves(r, good, []int{1, 2, 1}, []int{2}) {
+		t.Error("a word is compared that is not valid")
+	}
+}

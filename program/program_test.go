@@ -226,3 +226,17 @@ func TestLaws(t *testing.T) {
 		}
 	}
 }
+
+// TestMost checks P37.1: as many threads as there may be, and the longest text.
+func TestMost(t *testing.T) {
+	s := "values 8\n"
+	for i := range 6 {
+		s += fmt.Sprintf("thread t%d\nset 7\nend\n", i)
+	}
+	if p, line, e := Parse(s); e != api.OK || line != 0 || len(p.Threads) != 6 {
+		t.Errorf("Parse gives %v, %d, %d", p, line, e)
+	}
+	if _, line, e := Parse(strings.Repeat("x", api.MaxText)); e != api.ErrProgram || line != 1 {
+		t.Errorf("Parse gives %d, %d", line, e)
+	}
+}

@@ -149,3 +149,13 @@ func TestAgreesWithBackward(t *testing.T) {
 		t.Error("nothing was left out")
 	}
 }
+
+// TestErrorsAlone checks that errors come without a result.
+func TestErrorsAlone(t *testing.T) {
+	if ok, e := Closed(api.Model{}, nil); e != api.ErrKind || ok {
+		t.Errorf("Closed gives %v, %d", ok, e)
+	}
+	if ok, e := Closed(move(), vals("0")); e != api.ErrValue || ok {
+		t.Errorf("Closed gives %v, %d", ok, e)
+	}
+}

@@ -90,3 +90,10 @@ func TestErrors(t *testing.T) {
 		t.Errorf("Parse gives %d", e)
 	}
 }
+
+// TestLongest checks P41.1: a text as long as it may be.
+func TestLongest(t *testing.T) {
+	if _, e := Parse(lossy(), strings.Repeat("x", api.MaxText)); e != api.ErrSyntax {
+		t.Errorf("Parse gives %d", e)
+	}
+}

@@ -211,3 +211,29 @@ func TestLaws(t *testing.T) {
 		t.Errorf("%d were reached, %d not", yes, no)
 	}
 }
+
+// TestSameFields checks P33.3: verdicts that differ in one field.
+func TestSameFields(t *testing.T) {
+	all := []api.Verdict{{}, {Decided: true}, {Yes: true}, {Used: 1}, {Run: steps(0, "0")}, {Run: steps(1, "0")}, {Atom: api.Atom{Mod: 2}}, {Atom: api.Atom{Coefs: []int{1}}}, {Closed: vals("0")}, {Closed: vals("1")}}
+	for i, a := range all {
+		for j, b := range all {
+			if Same(a, b) != (i == j) {
+				t.Errorf("Same of %v and %v is wrong", a, b)
+			}
+		}
+	}
+}
+
+// TestMost checks P33.2: as many configurations as there may be, and one more.
+func TestMost(t *testing.T) {
+	// Eight states, and two channels with up to three equal letters each, have 8 * 4 * 4 configurations.
+	m := parse("model lossy\nstates a b c d e f g h\nplaces p q\nletters l k\nrule r a -> b\nrule s b -> c\nrule t c -> d\nrule u d -> e\nrule v e -> f\nrule w f -> g\nrule x g -> h\nstart 0(0 0(0 0 0) 0(0 0 0))")
+	target := val("0(0 0(1) 0)")
+	if v, e := Decide(m, target, 1000); e != api.OK || !v.Decided || len(v.Closed) != api.MaxGraph || Refutes(m, target, v) != api.OK {
+		t.Errorf("Decide gives %d configurations, %d", len(v.Closed), e)
+	}
+	m.Rules = append(m.Rules, api.Rule{Name: "y", From: 7, To: 7, Act: api.ActSend, Letter: 1})
+	if v, e := Decide(m, target, 1000); e != api.ErrLimit || v.Decided {
+		t.Errorf("Decide gives %v, %d", v, e)
+	}
+}

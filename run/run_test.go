@@ -153,3 +153,27 @@ func TestText(t *testing.T) {
 		}
 	}
 }
+
+// TestLongest checks P23.2: texts as long as they may be.
+func TestLongest(t *testing.T) {
+	if s, e := Text(counters(), slices.Repeat(steps(0, "0(0 2)"), 64)); e != api.OK || len(s) != 64*len("up 0(0 2)\n") {
+		t.Errorf("Text gives %q, %d", s, e)
+	}
+	if _, e := Parse(counters(), strings.Repeat("x", api.MaxText)); e != api.ErrSyntax {
+		t.Errorf("Parse gives %d", e)
+	}
+	if _, e := Parse(counters(), "none 0(0 0)\n"); e != api.ErrSyntax {
+		t.Errorf("Parse gives %d", e)
+	}
+	// 64 lines of 64 bytes are as many bytes as there may be.
+	m := parse("model lossy\nstates a\nplaces c d\nletters l\nrule abcde a -> a\nstart 0(0 0 0)")
+	full := "0(0 0(0 0 0 0 0 0 0 0 0 0 0 0) 0(0 0 0 0 0 0 0 0 0 0 0 0))"
+	m.Rules[0].Name = "abcdefghijkl"[:63-1-len(full)]
+	if s, e := Text(m, slices.Repeat(steps(0, full), 64)); e != api.OK || len(s) != api.MaxText {
+		t.Errorf("Text gives %d bytes, %d", len(s), e)
+	}
+	m.Rules[0].Name += "m"
+	if s, e := Text(m, slices.Repeat(steps(0, full), 64)); e != api.ErrLimit || s != "" {
+		t.Errorf("Text gives %d bytes, %d", len(s), e)
+	}
+}

@@ -141,3 +141,14 @@ func less(z, y []int) bool {
 	}
 	return smaller || slices.Compare(z, y) < 0
 }
+
+// TestMost checks P11.1: as many places as there may be, and that errors come alone.
+func TestMost(t *testing.T) {
+	six := [][]int{{-1, 0}, {1, -1}, {0, 1}, {0, 0}, {-1, 0}, {1, 0}}
+	if f, e := Of(six); e != api.OK || !same(f, [][]int{{0, 0, 0, 0, 1, 1}, {0, 0, 0, 1, 0, 0}, {0, 1, 1, 0, 1, 0}, {1, 0, 0, 0, 0, 1}, {1, 1, 1, 0, 0, 0}}) {
+		t.Errorf("Of gives %v, %d", f, e)
+	}
+	if ok, e := Allows(nil, nil, nil); e != api.ErrShape || ok {
+		t.Errorf("Allows gives %v, %d", ok, e)
+	}
+}

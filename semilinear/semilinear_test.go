@@ -147,3 +147,14 @@ func TestLaws(t *testing.T) {
 		}
 	}
 }
+
+// TestMost checks P13.1 and P13.2: as many sets and periods as there may be.
+func TestMost(t *testing.T) {
+	if e := Check(1, slices.Repeat([]api.Linear{set([]int{16})}, 8)); e != api.OK {
+		t.Errorf("Check gives %d", e)
+	}
+	a, b := set([]int{8}, []int{1}, []int{2}), set([]int{8}, []int{2}, []int{16})
+	if s, e := Sum(1, a, b); e != api.OK || !same(s, set([]int{16}, []int{1}, []int{2}, []int{16})) {
+		t.Errorf("Sum gives %v, %d", s, e)
+	}
+}

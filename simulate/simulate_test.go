@@ -188,3 +188,25 @@ func TestAgainstWords(t *testing.T) {
 		}
 	}
 }
+
+// TestMost checks P36.3: just as many pairs as may be met. A word of length n leads to its last bits, of which there are 2^12 behind 12 letters or more.
+func TestMost(t *testing.T) {
+	bits := system(arcs(0, 0, 1, 0, 1, 1))
+	for i := 1; i <= 12; i++ {
+		bits.Arcs = append(bits.Arcs, arcs(0, i+1, 1, i+1))
+	}
+	bits.Arcs[12] = nil
+	all := system(arcs(0, 0, 1, 0))
+	if w, ok, e := Trace(bits, all, 16); e != api.OK || ok {
+		t.Errorf("Trace gives %v, %v, %d", w, ok, e)
+	}
+	// One more state that only a longer word can leave: its pair is one too many.
+	more := system(arcs(0, 0, 1, 0, 1, 1))
+	for i := 1; i <= 13; i++ {
+		more.Arcs = append(more.Arcs, arcs(0, i+1, 1, i+1))
+	}
+	more.Arcs[13] = nil
+	if w, ok, e := Trace(more, all, 16); e != api.ErrLimit || ok || w != nil {
+		t.Errorf("Trace gives %v, %v, %d", w, ok, e)
+	}
+}

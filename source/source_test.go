@@ -158,3 +158,19 @@ func TestFailure(t *testing.T) {
 		}
 	}
 }
+
+// TestOneMissing checks P39.1: an event needs its rule from the value that is there.
+func TestOneMissing(t *testing.T) {
+	p := parse("values 2\nthread t\nmaybe 0\nset 1\njump 0\nend\n")
+	good := []api.Event{{Number: 3, Next: 1}, {Line: 1, Number: 4, Value: 1, Next: 2}, {Line: 2, Number: 5, Value: 1, Next: 0}, {Number: 3, Value: 1, Next: 1}}
+	if l, e := Steps(p, good); e != api.OK || len(l) != 4 {
+		t.Errorf("Steps gives %v, %d", l, e)
+	}
+	for i := range good {
+		bad := slices.Clone(good)
+		bad[i].Value = 1 - bad[i].Value
+		if l, e := Steps(p, bad); e != api.ErrBlocked || l != nil {
+			t.Errorf("Steps gives %v, %d", l, e)
+		}
+	}
+}

@@ -162,3 +162,38 @@ func TestDownAndLeq(t *testing.T) {
 		t.Errorf("Leq gives %d", e)
 	}
 }
+
+// TestMost checks P22.2: just as many steps as there may be, and that errors come alone.
+func TestMost(t *testing.T) {
+	// Tokens of four ages are in each of three places; a rule is given by how many ages of each place it can take.
+	m := parse("model timed\nstates a\nplaces u v w\nage 2\nstart 0(0 0(0(0 0) 0(0 1) 0(0 2) 0(0 3) 0(1 0) 0(1 1) 0(1 2) 0(1 3) 0(2 0) 0(2 1) 0(2 2) 0(2 3)))\n")
+	add := func(ages ...int) {
+		r := api.Rule{Name: "r" + string(rune('a'+len(m.Rules)))}
+		for place, n := range ages {
+			r.Takes = append(r.Takes, api.Take{Place: place, High: n - 1})
+		}
+		m.Rules = append(m.Rules, r)
+	}
+	add(4, 4, 4)
+	add(4, 4, 4)
+	add(4, 4, 4)
+	add(4, 4, 3)
+	add(3, 4)
+	if l, e := All(m, m.Start); e != api.OK || len(l) != 1+64+64+64+48+12 {
+		t.Errorf("All gives %d, %d", len(l), e)
+	}
+	add(3)
+	if l, e := All(m, m.Start); e != api.OK || len(l) != api.MaxChoices {
+		t.Errorf("All gives %d, %d", len(l), e)
+	}
+	add(1)
+	if l, e := All(m, m.Start); e != api.ErrLimit || l != nil {
+		t.Errorf("All gives %d, %d", len(l), e)
+	}
+	if ok, e := Leq(api.Model{}, val("0"), val("0")); e != api.ErrKind || ok {
+		t.Errorf("Leq gives %v, %d", ok, e)
+	}
+	if ok, e := Leq(counters(), val("0"), val("0")); e != api.ErrConfig || ok {
+		t.Errorf("Leq gives %v, %d", ok, e)
+	}
+}

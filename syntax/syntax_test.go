@@ -13,14 +13,14 @@ import (
 func texts() []string {
 	return []string{
 		"model counter\nstates a b\nplaces x\nrule up a -> b need x 1 give x 3\nstart 0 ( 0 2 )\n",
-		"model counter\nstates a\nplaces x y z\nrule r a -> a give y 16 move x y move y y empty z\nrule s a -> a\nstart 0 ( 0 1048576 0 2 )\n",
+		"model counter\nstates a\nplaces x y z\nrule r a -> a give y 16 move x y move y y empty z\nrule s a -> a\nrule t a -> a empty x move y x move z z\nstart 0 ( 0 1048576 0 2 )\n",
 		"model counter\nstates a\nplaces x\nstart 0 ( 0 0 )\n",
 		"model lossy\nstates a b\nplaces c d\nletters l k\nrule r a -> b send d k\nrule s b -> a receive c l\nrule t a -> a\nstart 0 ( 0 0 ( 0 1 ) 0 )\n",
 		"model priority\nstates a\nplaces c\nletters l 0 k 5\nrule r a -> a send c k\nstart 0 ( 0 0 )\n",
 		"model nested\nstates a\nletters l k\nlevels 2\nrule r a -> a path l next l k\nrule s a -> a next k\nrule t a -> a path l k\nstart 0 ( 0 0 ( 0 ( 0 0 ( 1 1 ) ) ) )\n",
 		"model nested\nstates a\nletters l\nlevels 1\nrule r a -> a next l\nstart 0 ( 0 0 )\n",
 		"model timed\nstates a\nplaces x y\nage 0\nrule r a -> a take x 0 1 take y 1 1 make x make x make y\nrule s a -> a\nstart 0 ( 0 0 ( 0 ( 1 1 ) ) )\n",
-		"model branching\nstates a b\nplaces x\nrule r 0 -> a give x 2\nrule s a + b -> a need x 1\nrule t b -> a\n",
+		"model branching\nstates a b\nplaces x\nrule r 0 -> a give x 2\nrule s a + b -> a need x 1\nrule t b -> a\nrule u b + a -> b\n",
 	}
 }
 
@@ -119,5 +119,36 @@ func TestErrors(t *testing.T) {
 	}
 	if s, e := Text(long); s != "" || e != api.ErrLimit {
 		t.Errorf("Text of a large model gives %d bytes, %d", len(s), e)
+	}
+}
+
+// TestLongest checks P16.1: a text of just as many bytes as there may be, and one of one more.
+func TestLongest(t *testing.T) {
+	m := api.Model{Kind: api.KindCounter, States: []string{"a"}, Places: []string{"abcdefghijk1", "abcdefghijk2", "abcdefghijk3", "abcdefghijk4", "abcdefghijk5", "p"}}
+	m.Start = api.Value{Kids: make([]api.Value, 7)}
+	size := func() int { return len(token.Join(write(m))) }
+	for i := range 12 {
+		amounts := []int{10, 10, 10, 10, 10, 0}
+		m.Rules = append(m.Rules, api.Rule{Name: "r" + string(rune('a'+i)), Need: amounts, Give: amounts})
+	}
+	for i := range m.Rules {
+		if m.Rules[i].Move = []int{0, 1, 2, 3, 4, 5}; size() > api.MaxText {
+			m.Rules[i].Move = nil
+		}
+	}
+	for i := range m.Rules {
+		for len(m.Rules[i].Name) < api.MaxWord && size() < api.MaxText {
+			m.Rules[i].Name += "x"
+		}
+	}
+	for n := &m.Start.Kids[1].N; size() < api.MaxText && *n < 100000; {
+		*n = max(10, *n*10)
+	}
+	if s, e := Text(m); size() != api.MaxText || e != api.OK || len(s) != api.MaxText {
+		t.Errorf("Text of %d bytes gives %d, %d", size(), len(s), e)
+	}
+	m.Places[5] = "q1"
+	if s, e := Text(m); e != api.ErrLimit || s != "" {
+		t.Errorf("Text of %d bytes gives %d, %d", size(), len(s), e)
 	}
 }

@@ -26,3 +26,10 @@ func TestValues(t *testing.T) {
 		t.Error("SameSteps is wrong")
 	}
 }
+
+// TestTwice checks that a list with a value twice is not ascending.
+func TestTwice(t *testing.T) {
+	if IsAscending(Leaves([]int{1, 1})) || !IsAscending(nil) {
+		t.Error("IsAscending is wrong")
+	}
+}

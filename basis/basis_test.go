@@ -285,3 +285,24 @@ func TestSets(t *testing.T) {
 		t.Errorf("Intersect of 16 and 16 gives %d values, %d", len(m), e)
 	}
 }
+
+// TestMeetMost checks P7.3: as many values as there may be, and too many in a part.
+func TestMeetMost(t *testing.T) {
+	w := words(two)
+	a, b := api.Value{}, api.Value{}
+	for range 8 {
+		a.Kids = append(a.Kids, val("0(0)"))
+		b.Kids = append(b.Kids, val("0(1)"))
+	}
+	if m, e := Meet(product(w, w, w, w, w, w, w, w), a, b); e != api.OK || len(m) != 256 {
+		t.Errorf("Meet gives %d values, %d", len(m), e)
+	}
+	a.Kids[7] = val("0(0 0)")
+	if m, e := Meet(product(w, w, w, w, w, w, w, w), a, b); e != api.ErrLimit || m != nil {
+		t.Errorf("Meet gives %d values, %d", len(m), e)
+	}
+	inner := product(product(words(eight), words(eight)), two)
+	if m, e := Meet(inner, val("0(0(0(0 1 2 3) 0(0 1 2 3)) 0)"), val("0(0(0(4 5 6 7) 0(4 5 6 7)) 0)")); e != api.ErrLimit || m != nil {
+		t.Errorf("Meet gives %d values, %d", len(m), e)
+	}
+}

@@ -196,3 +196,18 @@ func TestMost(t *testing.T) {
 		t.Errorf("Set gives %v, %d", s, e)
 	}
 }
+
+// TestMostCycles checks P30.3: just as many cycles as there may be, and more.
+func TestMostCycles(t *testing.T) {
+	text := "model counter\nstates a b\nplaces x\nrule stay a -> a\nrule go a -> b\nrule back1 b -> a\nrule back2 b -> a\n"
+	for i := range 6 {
+		text += fmt.Sprintf("rule idle%d b -> b\n", i)
+	}
+	m := parse(text + "start 0(0 0)")
+	if l, e := Cycles(m, 0, 4); e != api.OK || len(l) != 128 {
+		t.Errorf("Cycles gives %d, %d", len(l), e)
+	}
+	if l, e := Cycles(parse(text+"rule more a -> a\nstart 0(0 0)"), 0, 4); e != api.ErrLimit || l != nil {
+		t.Errorf("Cycles gives %d, %d", len(l), e)
+	}
+}

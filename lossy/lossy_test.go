@@ -330,12 +330,24 @@ func TestMost(t *testing.T) {
 	if m, e := Maximise(two(), l); e != api.OK || len(m) != 64 {
 		t.Errorf("Maximise gives %d, %d", len(m), e)
 	}
-	// Each step can send one of two letters: behind seven steps there are more than 64 clouds.
-	many := parse("model lossy\nstates a b\nplaces c\nletters l k\nrule r a -> b send c l\nrule s b -> a send c k\nrule t a -> b send c k\nrule u b -> a send c l\nstart 0(0 0)")
-	if l, ok, e := Explore(many, 1000); e != api.ErrLimit || ok || l != nil {
+	// Three, four and four rules lead to 3, 3 * 4 and 3 * 4 * 4 clouds beside the first one; one rule more to one cloud too many.
+	text := "model lossy\nstates a b c d e\nplaces p\nletters l0 l1 l2 l3\n"
+	for i, x := range []struct {
+		from, to string
+		letters  int
+	}{{"a", "b", 3}, {"b", "c", 4}, {"c", "d", 4}} {
+		for k := range x.letters {
+			text += fmt.Sprintf("rule r%d%d %s -> %s send p l%d\n", i, k, x.from, x.to, k)
+		}
+	}
+	if l, ok, e := Explore(parse(text+"start 0(0 0)"), 1000); e != api.OK || !ok || len(l) != 64 || Holds(parse(text+"start 0(0 0)"), l) != api.OK {
 		t.Errorf("Explore gives %d clouds, %v, %d", len(l), ok, e)
 	}
-	if l, ok, e := Explore(many, 20); e != api.OK || ok || len(l) == 0 {
+	more := parse(text + "rule last a -> e\nstart 0(0 0)")
+	if l, ok, e := Explore(more, 1000); e != api.ErrLimit || ok || l != nil {
+		t.Errorf("Explore gives %d clouds, %v, %d", len(l), ok, e)
+	}
+	if l, ok, e := Explore(more, 3); e != api.OK || ok || len(l) == 0 {
 		t.Errorf("Explore gives %d clouds, %v, %d", len(l), ok, e)
 	}
 }

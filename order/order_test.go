@@ -287,3 +287,12 @@ func TestMost(t *testing.T) {
 		}
 	}
 }
+
+// TestSortedParts checks P6.3: multisets in the parts of products and in words are sorted, too.
+func TestSortedParts(t *testing.T) {
+	ty := product(nat, bags(nat), words(bags(product(nat, bags(nat)))))
+	s, e := Sorted(ty, val("0(7 0(3 1) 0(0(0(2 0(5 4)) 0(1 0(1 0)))))"))
+	if e != api.OK || Compare(s, val("0(7 0(1 3) 0(0(0(1 0(0 1)) 0(2 0(4 5)))))")) != 0 {
+		t.Errorf("Sorted gives %v, %d", s, e)
+	}
+}

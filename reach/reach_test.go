@@ -232,8 +232,12 @@ func TestMost(t *testing.T) {
 	if v, e := Decide(m, target, 1000); e != api.OK || !v.Decided || len(v.Closed) != api.MaxGraph || Refutes(m, target, v) != api.OK {
 		t.Errorf("Decide gives %d configurations, %d", len(v.Closed), e)
 	}
-	m.Rules = append(m.Rules, api.Rule{Name: "y", From: 7, To: 7, Act: api.ActSend, Letter: 1})
-	if v, e := Decide(m, target, 1000); e != api.ErrLimit || v.Decided {
-		t.Errorf("Decide gives %v, %d", v, e)
+	// A model with a Move has no candidates, so all that x can be is found.
+	for n, want := range map[int]api.Errno{127: api.OK, 128: api.ErrLimit} {
+		falls := parse("model counter\nstates a b\nplaces x\nrule r a -> a need x 1\nrule s b -> b empty x\nstart 0(0 0)")
+		falls.Start = values.Counter(0, []int{n})
+		if v, e := Decide(falls, val("0(1 0)"), 1000); e != want || v.Decided != (want == api.OK) {
+			t.Errorf("Decide from %d gives %d configurations, %d", n, len(v.Closed), e)
+		}
 	}
 }

@@ -75,7 +75,7 @@ func TestValue(t *testing.T) {
 		e     api.Errno
 	}{
 		{move, []int{3, 0, 1}, 2, 2, true, api.OK}, {move, []int{3, 0, 1}, 0, 5, true, api.OK}, {[][]int{{1}}, []int{5}, 0, 0, false, api.OK},
-		{[][]int{{-1}, {1}, {1}}, []int{1, 5, 2}, 0, 3, true, api.OK}, {move, []int{-1}, 9, 0, false, api.ErrLength}, {move, []int{-1, 0, 0}, 0, 0, false, api.ErrRange},
+		{[][]int{{-1}, {1}, {1}}, []int{1, 5, 2}, 0, 3, true, api.OK}, {[][]int{{-1}, {1}, {1}}, []int{1, 5, 2}, 1, 6, true, api.OK}, {[][]int{{-1}, {1}, {0}}, []int{1, 5, 2}, 2, 2, true, api.OK}, {move, []int{-1}, 9, 0, false, api.ErrLength}, {move, []int{-1, 0, 0}, 0, 0, false, api.ErrRange},
 		{move, []int{0, 0, 0}, 3, 0, false, api.ErrRange}, {move, []int{0, 0, 0}, -1, 0, false, api.ErrRange}, {move, []int{0, 0, most + 1}, 0, 0, false, api.ErrRange},
 	} {
 		if n, ok, e := Bound(x.c, x.start, x.place); n != x.n || ok != x.ok || e != x.e {

@@ -105,3 +105,23 @@ func TestText(t *testing.T) {
 		t.Errorf("Text gives %d", e)
 	}
 }
+
+// TestLongest checks P44.1: a text of just as many bytes as there may be, and one of one more.
+func TestLongest(t *testing.T) {
+	m, _, _ := syntax.Parse(finite)
+	q, _ := question.Parse(m, "dead")
+	empty, _ := Text(m, q, api.Answer{})
+	line := len("among 0\n")
+	count := (16*api.MaxText - len(empty)) / line
+	a := api.Answer{Closed: make([]api.Value, count)}
+	for rest := 16*api.MaxText - len(empty) - count*line; rest > 0; rest-- {
+		a.Closed[0].N = max(10, 10*a.Closed[0].N)
+	}
+	if s, e := Text(m, q, a); e != api.OK || len(s) != 16*api.MaxText {
+		t.Errorf("Text gives %d bytes, %d", len(s), e)
+	}
+	a.Closed[1].N = 10
+	if s, e := Text(m, q, a); e != api.ErrLimit || s != "" {
+		t.Errorf("Text gives %d bytes, %d", len(s), e)
+	}
+}

@@ -200,13 +200,15 @@ func TestMost(t *testing.T) {
 	if w, ok, e := Trace(bits, all, 16); e != api.OK || ok {
 		t.Errorf("Trace gives %v, %v, %d", w, ok, e)
 	}
-	// One more state that only a longer word can leave: its pair is one too many.
-	more := system(arcs(0, 0, 1, 0, 1, 1))
-	for i := 1; i <= 13; i++ {
-		more.Arcs = append(more.Arcs, arcs(0, i+1, 1, i+1))
+	// A word with another letter leads to one more pair.
+	bits.Arcs[0] = append(bits.Arcs[0], api.Arc{Label: 2, To: 12})
+	all.Arcs[0] = append(all.Arcs[0], api.Arc{Label: 2, To: 0})
+	if w, ok, e := Trace(bits, all, 16); e != api.ErrLimit || ok || w != nil {
+		t.Errorf("Trace gives %v, %v, %d", w, ok, e)
 	}
-	more.Arcs[13] = nil
-	if w, ok, e := Trace(more, all, 16); e != api.ErrLimit || ok || w != nil {
+	// The word that is the answer is found, also when no other pair may be met.
+	bits.Arcs[0] = append(bits.Arcs[0][:3:3], api.Arc{Label: 3, To: 0})
+	if w, ok, e := Trace(bits, all, 16); e != api.OK || !ok || !slices.Equal(w, []int{3}) {
 		t.Errorf("Trace gives %v, %v, %d", w, ok, e)
 	}
 }

@@ -142,7 +142,7 @@ func TestCompare(t *testing.T) {
 
 // TestOneInvalid checks P4.1: one tree that is not valid is enough, and the largest ones are.
 func TestOneInvalid(t *testing.T) {
-	if Proves(node(0), node(0, node(16)), []int{0}) || Proves(node(16), node(16), []int{0}) || Proves(node(16), node(0), []int{0}) || Leq(node(0), node(0, node(-1))) {
+	if Proves(node(0), node(0, node(16)), []int{0}) || Proves(node(16), node(16), []int{0}) || Proves(node(16), node(0), []int{0}) || Proves(node(16), node(0), nil) || Leq(node(0), node(0, node(-1))) {
 		t.Error("a tree is compared that is not valid")
 	}
 	if !Leq(chain(12), chain(12)) || Size(chain(12)) != 12 || Compare(chain(12), chain(11)) == 0 || Compare(chain(12), chain(13)) != -1 {

@@ -39,8 +39,8 @@ rule idle b -> a
 start 0(0 0)`)
 }
 
-// config returns a configuration with tokens, each a place and an age.
-func config2(state int, l ...[2]int) api.Value {
+// made returns a configuration with tokens, each a place and an age.
+func made(state int, l ...[2]int) api.Value {
 	m := sample()
 	v, e := config(m, state, l)
 	if e != api.OK {
@@ -52,19 +52,19 @@ func config2(state int, l ...[2]int) api.Value {
 // TestApply checks P20.1 by hand.
 func TestApply(t *testing.T) {
 	full := make([][2]int, 12)
-	c := config2(0, [2]int{0, 0}, [2]int{0, 1}, [2]int{0, 3}, [2]int{1, 2})
+	c := made(0, [2]int{0, 0}, [2]int{0, 1}, [2]int{0, 3}, [2]int{1, 2})
 	for _, x := range []struct {
 		rule int
 		c    api.Value
 		want []api.Value
 		e    api.Errno
 	}{
-		{0, c, []api.Value{config2(1, [2]int{0, 0}, [2]int{0, 1}, [2]int{1, 0}, [2]int{1, 2})}, api.OK},
-		{1, c, []api.Value{config2(0, [2]int{0, 0}, [2]int{1, 2}), config2(0, [2]int{0, 1}, [2]int{1, 2}), config2(0, [2]int{0, 3}, [2]int{1, 2})}, api.OK},
-		{1, config2(0, [2]int{0, 0}), nil, api.OK}, {1, config2(0, [2]int{0, 1}, [2]int{0, 1}, [2]int{0, 1}), []api.Value{config2(0, [2]int{0, 1})}, api.OK}, {1, config2(0, [2]int{0, 2}, [2]int{0, 2}), nil, api.OK},
-		{2, config2(0), []api.Value{config2(0, [2]int{0, 0}, [2]int{0, 0}, [2]int{1, 0})}, api.OK}, {3, c, nil, api.OK}, {3, config2(1, full...), []api.Value{config2(0, full...)}, api.OK}, {2, config2(1, full...), nil, api.OK},
-		{2, config2(0, full...), nil, api.ErrLimit}, {2, config2(0, full[:10]...), nil, api.ErrLimit}, {2, config2(0, full[:9]...), []api.Value{config2(0, append(full[:11:11], [2]int{1, 0})...)}, api.OK},
-		{0, config2(0, [2]int{0, 1}, [2]int{1, 2}), nil, api.OK}, {4, val("0"), nil, api.ErrRule}, {-1, val("0"), nil, api.ErrRule}, {0, val("0"), nil, api.ErrConfig}, {0, val("0(0 0(0(0 4)))"), nil, api.ErrConfig},
+		{0, c, []api.Value{made(1, [2]int{0, 0}, [2]int{0, 1}, [2]int{1, 0}, [2]int{1, 2})}, api.OK},
+		{1, c, []api.Value{made(0, [2]int{0, 0}, [2]int{1, 2}), made(0, [2]int{0, 1}, [2]int{1, 2}), made(0, [2]int{0, 3}, [2]int{1, 2})}, api.OK},
+		{1, made(0, [2]int{0, 0}), nil, api.OK}, {1, made(0, [2]int{0, 1}, [2]int{0, 1}, [2]int{0, 1}), []api.Value{made(0, [2]int{0, 1})}, api.OK}, {1, made(0, [2]int{0, 2}, [2]int{0, 2}), nil, api.OK},
+		{2, made(0), []api.Value{made(0, [2]int{0, 0}, [2]int{0, 0}, [2]int{1, 0})}, api.OK}, {3, c, nil, api.OK}, {3, made(1, full...), []api.Value{made(0, full...)}, api.OK}, {2, made(1, full...), nil, api.OK},
+		{2, made(0, full...), nil, api.ErrLimit}, {2, made(0, full[:10]...), nil, api.ErrLimit}, {2, made(0, full[:9]...), []api.Value{made(0, append(full[:11:11], [2]int{1, 0})...)}, api.OK},
+		{0, made(0, [2]int{0, 1}, [2]int{1, 2}), nil, api.OK}, {4, val("0"), nil, api.ErrRule}, {-1, val("0"), nil, api.ErrRule}, {0, val("0"), nil, api.ErrConfig}, {0, val("0(0 0(0(0 4)))"), nil, api.ErrConfig},
 	} {
 		if l, e := Apply(sample(), x.rule, x.c); e != x.e || !values.SameLists(l, values.Ascending(x.want)) {
 			t.Errorf("Apply(%d, %v) gives %v, %d and not %v", x.rule, x.c, l, e, x.want)
@@ -74,14 +74,14 @@ func TestApply(t *testing.T) {
 
 // TestTick checks P20.2, and the errors of models.
 func TestTick(t *testing.T) {
-	c := config2(1, [2]int{0, 0}, [2]int{0, 3}, [2]int{1, 2}, [2]int{0, 2}, [2]int{0, 2})
-	if d, e := Tick(sample(), c); e != api.OK || !values.Same(d, config2(1, [2]int{0, 1}, [2]int{0, 3}, [2]int{0, 3}, [2]int{0, 3}, [2]int{1, 3})) {
+	c := made(1, [2]int{0, 0}, [2]int{0, 3}, [2]int{1, 2}, [2]int{0, 2}, [2]int{0, 2})
+	if d, e := Tick(sample(), c); e != api.OK || !values.Same(d, made(1, [2]int{0, 1}, [2]int{0, 3}, [2]int{0, 3}, [2]int{0, 3}, [2]int{1, 3})) {
 		t.Errorf("Tick gives %v, %d", d, e)
 	}
 	if l, e := Tokens(sample(), c); e != api.OK || fmt.Sprint(l) != "[[0 0] [0 2] [0 2] [0 3] [1 2]]" {
 		t.Errorf("Tokens gives %v, %d", l, e)
 	}
-	if d, e := Tick(sample(), config2(0)); e != api.OK || !values.Same(d, config2(0)) {
+	if d, e := Tick(sample(), made(0)); e != api.OK || !values.Same(d, made(0)) {
 		t.Errorf("Tick of no tokens gives %v, %d", d, e)
 	}
 	counter := parse("model counter\nstates a\nplaces x\nstart 0(0 0)")
@@ -109,7 +109,7 @@ func TestMonotone(t *testing.T) {
 	var all []api.Value
 	for n := range 64 {
 		a, b, c := [2]int{n & 1, n >> 1 & 1}, [2]int{0, 1 + n>>2&1}, [2]int{n >> 3 & 1, n >> 4 & 3}
-		all = append(all, config2(0, a, b, c), config2(0, a, b), config2(0, c))
+		all = append(all, made(0, a, b, c), made(0, a, b), made(0, c))
 	}
 	for _, a := range all {
 		for _, b := range all {

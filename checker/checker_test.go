@@ -189,3 +189,71 @@ func TestParts(t *testing.T) {
 		t.Errorf("Check gives %d", e)
 	}
 }
+
+// TestAtomOrClosed checks P43.2: an answer to AskReach without Yes that has an Atom and Closed is refused before the certificate is looked at.
+func TestAtomOrClosed(t *testing.T) {
+	const w = api.Omega
+	two := parse("model counter\nstates s t u\nplaces x\nrule r0 s -> s need x 1\nrule r1 t -> t give x 1\nstart 0(0 2)")
+	one := parse("model counter\nstates a\nplaces x\nrule r a -> a need x 1\nstart 0(0 1)")
+	five, down := api.Question{Kind: api.AskReach, Target: val("0(0 5)")}, vals("0(0 0)", "0(0 1)", "0(0 2)")
+	above := api.Question{Kind: api.AskReach, Target: val("0(0 2)")}
+	atom, other := api.Atom{Coefs: []int{-1}, Values: []int{-2, w, w}}, api.Atom{Coefs: []int{-1}, Values: []int{-1}}
+	for i, x := range []struct {
+		m api.Model
+		q api.Question
+		a api.Answer
+		e api.Errno
+	}{
+		{two, five, api.Answer{Atom: atom, Closed: down}, api.ErrAnswer}, {two, five, api.Answer{Atom: atom}, api.OK}, {two, five, api.Answer{Closed: down}, api.OK},
+		{one, above, api.Answer{Atom: other, Closed: down[:1]}, api.ErrAnswer}, {one, above, api.Answer{Atom: other}, api.OK}, {one, above, api.Answer{Closed: down[:1]}, api.ErrBegin}, {one, above, api.Answer{Closed: down[:2]}, api.OK},
+		{two, five, api.Answer{Atom: api.Atom{Mod: 2}, Closed: down}, api.ErrAnswer}, {two, five, api.Answer{Atom: api.Atom{Coefs: []int{0}}, Closed: down}, api.ErrAnswer}, {two, five, api.Answer{Atom: api.Atom{Values: []int{0}}, Closed: down}, api.ErrAnswer}, {two, five, api.Answer{Atom: api.Atom{Coefs: []int{}, Values: []int{}}, Closed: down}, api.OK},
+		{two, api.Question{Kind: api.AskReach, Target: val("0")}, api.Answer{Atom: atom, Closed: down}, api.ErrAsk},
+	} {
+		x.a.Decided = true
+		if e := Check(x.m, x.q, x.a); e != x.e {
+			t.Errorf("%d: Check gives %d and not %d", i, e, x.e)
+		}
+	}
+}
+
+// TestFields checks P43.2 for every set of fields: those that an answer does not have give ErrAnswer, the others do not.
+func TestFields(t *testing.T) {
+	with := []struct {
+		letter string
+		add    func(*api.Answer)
+	}{
+		{"r", func(a *api.Answer) { a.Run = steps(0, "0(0 1 0)") }}, {"b", func(a *api.Answer) { a.Basis = vals("0(0 0 1)") }}, {"a", func(a *api.Answer) { a.Atom.Mod = 2 }},
+		{"l", func(a *api.Answer) { a.Limits = make([]api.Limit, 1) }}, {"p", func(a *api.Answer) { a.Pump.Again = []int{0} }}, {"c", func(a *api.Answer) { a.Closed = vals("0(0 0 0)") }},
+	}
+	for _, x := range []struct {
+		kind    int
+		yes, no []string
+	}{
+		{api.AskCover, []string{"", "r"}, []string{"", "b"}}, {api.AskReach, []string{"", "r"}, []string{"", "a", "c"}}, {api.AskBounded, []string{"", "l"}, []string{"", "p"}},
+		{api.AskPlace, []string{"", "l"}, []string{"", "p"}}, {api.AskDead, []string{"", "r"}, []string{"", "c"}}, {api.AskHome, []string{"", "c"}, []string{"", "r", "c", "rc"}},
+	} {
+		q := api.Question{Kind: x.kind}
+		if x.kind == api.AskCover || x.kind == api.AskReach {
+			q.Target = val("0(0 0 1)")
+		}
+		for set := range 1 << len(with) {
+			name, a := "", api.Answer{Decided: true}
+			for i, f := range with {
+				if set>>i&1 == 1 {
+					name += f.letter
+					f.add(&a)
+				}
+			}
+			for _, yes := range []bool{false, true} {
+				allowed := x.no
+				if yes {
+					allowed = x.yes
+				}
+				a.Yes = yes
+				if e := Check(up(), q, a); (e == api.ErrAnswer) == slices.Contains(allowed, name) {
+					t.Errorf("kind %d, yes %t, fields %q: Check gives %d", x.kind, yes, name, e)
+				}
+			}
+		}
+	}
+}
